@@ -8,6 +8,7 @@ import (
 
 	"exequatur/api"
 	"exequatur/pairs"
+	"exequatur/short"
 )
 
 func wantParse(t *testing.T, s string, want []api.Pair, wantE api.Errno) {
@@ -15,17 +16,6 @@ func wantParse(t *testing.T, s string, want []api.Pair, wantE api.Errno) {
 	got, e := pairs.Parse(s)
 	if e != wantE || !slices.Equal(got, want) {
 		t.Errorf("Parse(%.80q): %q, %d; want %q, %d", s, got, e, want, wantE)
-	}
-}
-
-// each calls f with every text of at most n bytes, all of them out of some.
-func each(some string, n int, f func(s string)) {
-	f("")
-	if n == 0 {
-		return
-	}
-	for i := range len(some) {
-		each(some, n-1, func(s string) { f(some[i:i+1] + s) })
 	}
 }
 
@@ -197,9 +187,9 @@ func TestParseEach(t *testing.T) {
 			t.Fatalf("Parse(%q): %q, %d; want %q, %d", s, got, e, want, wantE)
 		}
 	}
-	each("&=a", 9, check)
-	each("&=+%26", 6, check)
-	each("&=%3Dd", 6, check)
+	short.Texts("&=a", 9, check)
+	short.Texts("&=+%26", 6, check)
+	short.Texts("&=%3Dd", 6, check)
 }
 
 // P2.1: Build of any number of pairs, with all that a form can't hold quoted in keys and values.
